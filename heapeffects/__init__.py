@@ -1,0 +1,1 @@
+"""What a program of insertions and removals does to every heap."""

@@ -1,0 +1,22 @@
+"""Which values are numbers and counts."""
+
+from heapeffects.errors import InvalidCount, InvalidNumber
+
+
+def is_number(value):
+    # Python counts True and False among its integers, this package does not.
+    return isinstance(value, int) and not isinstance(value, bool)
+
+
+def is_count(value):
+    return is_number(value) and value >= 0
+
+
+def check_number(number):
+    if not is_number(number):
+        raise InvalidNumber(number)
+
+
+def check_count(count):
+    if not is_count(count):
+        raise InvalidCount(count)

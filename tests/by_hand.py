@@ -1,0 +1,90 @@
+"""Heaps run step by step on a sorted list, without any help of the package, and values to try it on."""
+
+import bisect
+import itertools
+
+
+def bag(numbers):
+    """The bag of these numbers."""
+    return tuple((number, list(numbers).count(number)) for number in sorted(set(numbers)))
+
+
+def numbers(of_bag):
+    return [number for number, count in of_bag for _ in range(count)]
+
+
+def steps_of(program):
+    """The elementary steps of a program, by running its loops."""
+    steps = []
+    for step in program:
+        if step[0] == "insert":
+            steps += [("insert", step[1], 1) for _ in range(step[2])]
+        elif step[0] == "remove":
+            steps += [("remove", 1) for _ in range(step[1])]
+        else:
+            for _ in range(step[1]):
+                steps += steps_of(step[2])
+    return steps
+
+
+def run(start, steps):
+    """The bags of what is left and what was removed, or None if a removal fails."""
+    heap = sorted(start)
+    removed = []
+    for step in steps:
+        if step[0] == "insert":
+            bisect.insort(heap, step[1])
+        elif heap:
+            removed.append(heap.pop(0))
+        else:
+            return None
+    return bag(heap), bag(removed)
+
+
+def triple(steps):
+    """The inserted bag, the removals and the survivors of elementary steps."""
+    inserted = [step[1] for step in steps if step[0] == "insert"]
+    removals = len(steps) - len(inserted)
+    above = max(inserted, default=0) + 1
+    left, _ = run([above] * removals, steps)
+    return bag(inserted), removals, tuple(entry for entry in left if entry[0] < above)
+
+
+def heaps(values, largest):
+    """All heaps of some of these numbers, as sorted tuples, up to a size."""
+    for size in range(largest + 1):
+        yield from itertools.combinations_with_replacement(values, size)
+
+
+def bags(values, largest):
+    for heap in heaps(values, largest):
+        yield bag(heap)
+
+
+def sequences(values, length):
+    """All sequences of so many elementary steps that insert these numbers."""
+    steps = [("insert", number, 1) for number in values] + [("remove", 1)]
+    return itertools.product(steps, repeat=length)
+
+
+def random_program(source, values, size, depth):
+    """A program of up to size steps in each part, with small counts, nested up to depth."""
+    program = []
+    for _ in range(source.randint(0, size)):
+        kind = source.choice(("insert", "remove", "repeat" if depth > 1 else "insert"))
+        count = source.randint(0, 3)
+        if kind == "insert":
+            program.append(("insert", source.choice(values), count))
+        elif kind == "remove":
+            program.append(("remove", source.randint(0, 2)))
+        else:
+            program.append(("repeat", count, random_program(source, values, size, depth - 1)))
+    return tuple(program)
+
+
+def nested(depth, innermost=(("insert", 1, 1),), count=1):
+    """A program that is nested so deep."""
+    program = innermost
+    for _ in range(depth - 1):
+        program = (("repeat", count, program),)
+    return program
