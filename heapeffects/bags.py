@@ -105,17 +105,17 @@ def smallest(bag, count):
     """The bag of the count smallest numbers; all of them, if there are fewer."""
     check_bag(bag)
     check_count(count)
-    return _cut(bag, count)[0]
+    return cut(bag, count)[0]
 
 
 def without_smallest(bag, count):
     """The bag of all numbers but the count smallest."""
     check_bag(bag)
     check_count(count)
-    return _cut(bag, count)[1]
+    return cut(bag, count)[1]
 
 
-def _cut(bag, count):
+def cut(bag, count):
     """The bag of the count smallest numbers, and the bag of the others."""
     lower = []
     upper = []

@@ -102,6 +102,11 @@ class Effect:
         return f"Effect({self._inserted}, {self._removals}, {self._survivors})"
 
 
+def check_effect(effect):
+    if not isinstance(effect, Effect):
+        raise InvalidEffect("effect")
+
+
 def _wrong_part(inserted, removals, survivors):
     """Which part keeps two bags and a count from making an effect, or None."""
     consumed = difference(inserted, survivors)

@@ -1,6 +1,7 @@
 """Heaps run step by step on a sorted list, without any help of the package, and values to try it on."""
 
 import bisect
+import functools
 import itertools
 
 
@@ -88,3 +89,62 @@ def nested(depth, innermost=(("insert", 1, 1),), count=1):
     for _ in range(depth - 1):
         program = (("repeat", count, program),)
     return program
+
+
+def failure(start, steps):
+    """The index of the first elementary step that fails, or None."""
+    size = len(start)
+    for index, step in enumerate(steps):
+        size += 1 if step[0] == "insert" else -1
+        if size < 0:
+            return index
+    return None
+
+
+def run_bounded(start, steps, capacity):
+    """Like run, on a heap with a capacity; the index of the first step that fails in the place of None."""
+    heap = sorted(start)
+    removed = []
+    for index, step in enumerate(steps):
+        if step[0] == "insert":
+            bisect.insort(heap, step[1])
+            del heap[capacity:]
+        elif heap:
+            removed.append(heap.pop(0))
+        else:
+            return index
+    return bag(heap), bag(removed)
+
+
+def triples(values, largest, removals):
+    """All triples that make an effect, of at most so many inserted numbers and removals."""
+    for inserted in heaps(values, largest):
+        for kept in sorted({part for size in range(len(inserted) + 1)
+                            for part in itertools.combinations(inserted, size)}):
+            for count in range(len(inserted) - len(kept), removals + 1):
+                yield bag(inserted), count, bag(kept)
+
+
+def normal(of_triple):
+    """Elementary steps with this effect."""
+    inserted, removals, survivors = of_triple
+    consumed = numbers(inserted)
+    for number in numbers(survivors):
+        consumed.remove(number)
+    steps = [("insert", number, 1) for number in consumed] + [("remove", 1)] * removals
+    return steps + [("insert", number, 1) for number in numbers(survivors)]
+
+
+@functools.lru_cache(maxsize=None)
+def after(first, last):
+    """The triple of running the second after the first."""
+    return triple(normal(first) + normal(last))
+
+
+def level(of_bag, number):
+    return sum(count for each, count in of_bag if each <= number)
+
+
+def greater(some, others):
+    """Whether survivors are greater than others, or equal to them."""
+    return all(level(some, number) >= level(others, number) for number, _ in some + others)

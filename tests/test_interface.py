@@ -15,14 +15,45 @@ FUNCTIONS = {
         "removal_count": "(program)", "expand": "(program, *, limit=1000)", "step_at": "(program, index)",
         "prefix": "(program, index)", "suffix": "(program, index)",
     },
+    "heaps": {
+        "heaps_along": "(bag, program, *, limit=1000)", "removed_along": "(bag, program, *, limit=1000)",
+    },
+    "algebra": {
+        "compose": "(*effects)", "power": "(effect, count)", "commute": "(first, second)",
+        "root": "(effect, count)", "exponent": "(effect, base)",
+    },
+    "separation": {
+        "separating_heap": "(first, second)", "identify": "(low, high, size, low_result, high_result)",
+    },
+    "division": {"right_quotient": "(whole, first)", "left_quotient": "(whole, last)"},
 }
 
+# The methods of each class that stand in the class itself, by its file and name.
 METHODS = {
-    "Effect": {
+    ("effects", "Effect"): {
         "__init__": "(self, inserted, removals, survivors)", "is_valid": "(inserted, removals, survivors)",
         "of": "(cls, program)", "identity": "(cls)", "apply": "(self, bag)", "removed": "(self, bag)",
         "normal": "(self)", "moved": "(self, number)", "__eq__": "(self, other)", "__repr__": "(self)",
     },
+    ("heaps", "Heap"): {
+        "__init__": "(self, bag=())", "of": "(cls, *numbers)", "push": "(self, number, *, count=1)",
+        "remove_smallest": "(self, *, count=1)", "run": "(self, program)", "copy": "(self)",
+        "__eq__": "(self, other)", "__repr__": "(self)",
+    },
+    ("heaps", "RecordedHeap"): {"__init__": "(self, bag=())", "undo": "(self)"},
+    ("heaps", "BoundedHeap"): {
+        "__init__": "(self, bag=(), *, capacity)", "resize": "(self, capacity)", "run": "(self, program)",
+    },
+}
+
+# Those of them that are static methods, class methods and properties.
+STATIC = {("effects", "Effect"): ("is_valid",)}
+OF_CLASSES = {("effects", "Effect"): ("of", "identity"), ("heaps", "Heap"): ("of",)}
+PROPERTIES = {
+    ("effects", "Effect"): ("inserted", "removals", "survivors", "consumed", "needed"),
+    ("heaps", "Heap"): ("contents", "size", "smallest"),
+    ("heaps", "RecordedHeap"): ("record",),
+    ("heaps", "BoundedHeap"): ("capacity",),
 }
 
 # The examples of the interface, as they stand there.
@@ -103,6 +134,83 @@ raises EmptyHeap(index=None)
 >>> from heapeffects.effects import Effect
 >>> Effect.of((("insert", 3, 1), ("insert", 7, 1), ("remove", 1))).normal()
 (('insert', 3, 1), ('remove', 1), ('insert', 7, 1))
+
+>>> from heapeffects.heaps import heaps_along
+>>> list(heaps_along(((5, 1),), (("insert", 3, 1), ("remove", 2))))
+[((5, 1),), ((3, 1), (5, 1)), ((5, 1),), ()]
+
+>>> from heapeffects.heaps import removed_along
+>>> list(removed_along(((5, 1),), (("insert", 3, 1), ("remove", 2))))
+[3, 5]
+
+>>> from heapeffects.heaps import Heap
+>>> heap = Heap.of(4, 9, 4)
+>>> heap.remove_smallest(count=2)
+((4, 2),)
+
+>>> from heapeffects.heaps import Heap
+>>> heap = Heap.of(4)
+>>> heap.remove_smallest(count=2)
+raises EmptyHeap(index=1)
+
+>>> from heapeffects.heaps import Heap
+>>> heap = Heap.of(4, 9)
+>>> removed = heap.run((("insert", 6, 1), ("remove", 2)))
+>>> (removed, heap.contents)
+(((4, 1), (6, 1)), ((9, 1),))
+
+>>> from heapeffects.heaps import RecordedHeap
+>>> heap = RecordedHeap.of(4)
+>>> heap.push(2)
+>>> heap.undo()
+>>> (heap.contents, heap.record)
+(((4, 1),), [])
+
+>>> from heapeffects.heaps import BoundedHeap
+>>> heap = BoundedHeap(((1, 2),), capacity=2)
+>>> heap.push(0)
+>>> heap.contents
+((0, 1), (1, 1))
+
+>>> from heapeffects.effects import Effect
+>>> from heapeffects.algebra import power
+>>> effect = Effect.of((("insert", 3, 1), ("insert", 7, 1), ("remove", 1)))
+>>> power(effect, 10 ** 30).survivors
+((7, 1000000000000000000000000000000),)
+
+>>> from heapeffects.effects import Effect
+>>> from heapeffects.algebra import commute
+>>> commute(Effect.of((("insert", 5, 1),)), Effect.of((("remove", 1),)))
+False
+
+>>> from heapeffects.effects import Effect
+>>> from heapeffects.algebra import power, root
+>>> effect = Effect.of((("insert", 3, 1), ("insert", 7, 1), ("remove", 1)))
+>>> root(power(effect, 6), 3) == power(effect, 2)
+True
+
+>>> from heapeffects.effects import Effect
+>>> from heapeffects.algebra import exponent, power
+>>> effect = Effect.of((("insert", 3, 1), ("insert", 7, 1), ("remove", 1)))
+>>> (exponent(power(effect, 9), effect), exponent(effect, power(effect, 2)))
+(9, None)
+
+>>> from heapeffects.effects import Effect
+>>> from heapeffects.separation import separating_heap
+>>> separating_heap(Effect.of((("insert", 5, 1), ("remove", 1))), Effect.of((("remove", 1), ("insert", 5, 1))))
+()
+
+>>> from heapeffects.separation import identify
+>>> effect = identify(5, 5, 1, ((5, 1),), ((6, 1),))
+>>> [effect.inserted, effect.removals, effect.survivors]
+[((5, 1),), 1, ()]
+
+>>> from heapeffects.effects import Effect
+>>> from heapeffects.algebra import power
+>>> from heapeffects.division import right_quotient
+>>> effect = Effect.of((("insert", 3, 1), ("insert", 7, 1), ("remove", 1)))
+>>> right_quotient(power(effect, 2), effect).survivors
+((7, 1),)
 """
 
 
@@ -121,7 +229,7 @@ def shown(example):
 class Examples(unittest.TestCase):
     def test_each_example(self):
         examples = EXAMPLES.strip().split("\n\n")
-        self.assertEqual(len(examples), 19)
+        self.assertEqual(len(examples), 33)
         for example in examples:
             with self.subTest(example):
                 self.assertEqual(shown(example), example.splitlines()[-1])
@@ -138,22 +246,38 @@ class Signatures(unittest.TestCase):
                     self.assertEqual(function.__module__, module.__name__)
                     self.assertEqual(str(inspect.signature(function)), signature)
 
+    def found(self, file, name):
+        """A class of the interface."""
+        module = importlib.import_module("heapeffects." + file)
+        self.assertEqual(getattr(module, name).__module__, module.__name__)
+        return getattr(module, name)
+
     def test_methods_stand_in_the_class_itself(self):
-        effects = importlib.import_module("heapeffects.effects")
-        self.assertEqual(effects.Effect.__module__, "heapeffects.effects")
-        for name, signature in METHODS["Effect"].items():
-            with self.subTest(name):
-                method = vars(effects.Effect)[name]
-                function = getattr(method, "__func__", method)
-                self.assertEqual(str(inspect.signature(function)), signature)
+        for place, methods in METHODS.items():
+            for name, signature in methods.items():
+                with self.subTest(place + (name,)):
+                    method = vars(self.found(*place))[name]
+                    function = getattr(method, "__func__", method)
+                    self.assertEqual(str(inspect.signature(function)), signature)
 
     def test_kinds_of_the_methods(self):
-        effect = vars(importlib.import_module("heapeffects.effects").Effect)
-        self.assertIsInstance(effect["is_valid"], staticmethod)
-        self.assertIsInstance(effect["of"], classmethod)
-        self.assertIsInstance(effect["identity"], classmethod)
-        for name in ("inserted", "removals", "survivors", "consumed", "needed"):
-            self.assertIsInstance(effect[name], property)
+        for kind, table in ((staticmethod, STATIC), (classmethod, OF_CLASSES), (property, PROPERTIES)):
+            for place, names in table.items():
+                for name in names:
+                    with self.subTest(place + (name,)):
+                        self.assertIsInstance(vars(self.found(*place))[name], kind)
+
+    def test_base_classes(self):
+        heap = self.found("heaps", "Heap")
+        self.assertEqual(heap.__bases__, (object,))
+        self.assertEqual(self.found("heaps", "RecordedHeap").__bases__, (heap,))
+        self.assertEqual(self.found("heaps", "BoundedHeap").__bases__, (heap,))
+
+    def test_methods_that_are_inherited_take_the_same_arguments(self):
+        for name in ("RecordedHeap", "BoundedHeap"):
+            for method, signature in METHODS["heaps", "Heap"].items():
+                if method not in ("__init__", "of"):
+                    self.assertEqual(str(inspect.signature(getattr(self.found("heaps", name), method))), signature)
 
 
 if __name__ == "__main__":

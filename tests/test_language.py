@@ -1,11 +1,24 @@
-"""Some rules of LANGUAGE.md that the text of the package shows: L1, L2, L10, L14, L16."""
+"""Some rules of LANGUAGE.md that the text of the package shows: L1, L2, L8, L10, L12, L14, L16, L17."""
 
 import ast
+import builtins
 import pathlib
 import unittest
 
 FOLDER = pathlib.Path(__file__).resolve().parent.parent / "heapeffects"
 FILES = sorted(FOLDER.glob("*.py"))
+
+# Builtins that L8 allows; others of L8 may be added when the package needs them.
+BUILTINS = set("""
+    len range enumerate zip min max sum abs sorted reversed int str bool list tuple dict set isinstance repr any all
+    divmod super property staticmethod classmethod ValueError LookupError IndexError OverflowError RuntimeError
+""".split())
+
+BARRED = set("""
+    register mro elements open input law version_info with_traceback add_note attrgetter breakpoint compile copyright
+    credits delattr dir eval exec exit gc globals help id importlib license locals methodcaller os quit sys type vars
+    _cold _tuplegetter _outside _record _written_out _member_names
+""".split())
 
 
 class Text(unittest.TestCase):
@@ -34,6 +47,32 @@ class Text(unittest.TestCase):
                     self.assertTrue(node.module.startswith("heapeffects."), path.name)
                     source = ast.parse((FOLDER / (node.module.split(".")[1] + ".py")).read_text(encoding="utf-8"))
                     self.assertLessEqual({alias.name for alias in node.names}, self.defined(source), path.name)
+
+    def names(self, path):
+        """All names that are bound or used in a file, those of attributes, parameters and keywords included."""
+        for node in ast.walk(ast.parse(path.read_text(encoding="utf-8"))):
+            for field in ("id", "attr", "arg", "name"):
+                if isinstance(getattr(node, field, None), str):
+                    yield getattr(node, field)
+
+    def test_builtins(self):
+        for path in FILES:
+            used = {node.id for node in ast.walk(ast.parse(path.read_text(encoding="utf-8"))) if isinstance(node, ast.Name)}
+            self.assertLessEqual({name for name in used if hasattr(builtins, name)}, BUILTINS, path.name)
+
+    def test_names(self):
+        allowed = {"__init__", "__eq__", "__repr__", "__class__", "__name__"}
+        for path in FILES:
+            for name in self.names(path):
+                self.assertNotIn(name, BARRED, path.name)
+                self.assertTrue(not name.startswith("__") or name in allowed, name)
+                self.assertFalse(name.startswith(("_wall", "_pe_", "_dcw_", "_enum_", "_cm_", "_lay_", "_law_", "_sre")), name)
+
+    def test_unused_imports(self):
+        for path in FILES:
+            tree = ast.parse(path.read_text(encoding="utf-8"))
+            imported = {alias.name for node in tree.body if isinstance(node, ast.ImportFrom) for alias in node.names}
+            self.assertLessEqual(imported, {node.id for node in ast.walk(tree) if isinstance(node, ast.Name)}, path.name)
 
     def defined(self, source):
         names = {node.name for node in source.body if isinstance(node, (ast.FunctionDef, ast.ClassDef))}

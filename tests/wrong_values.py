@@ -2,6 +2,8 @@
 
 import unittest
 
+from heapeffects.effects import Effect
+
 
 class Hostile:
     """An object that fails at whatever is asked of it."""
@@ -57,6 +59,11 @@ NOT_PROGRAMS = tuple((value, ()) for value in NOT_TUPLES) + (
 )
 
 NOT_INDEXES = NOT_NUMBERS + (-1, -2, -10 ** 30)
+
+
+# An effect's parts, texts and programs are no effects.
+NOT_EFFECTS = (None, True, False, 0, 5, "", "effect", "Effect((), 0, ())", b"", (), ((), 0, ()), [], [()], {}, set(), 1.5,
+               (GOOD,), Effect, Effect.identity, object(), HOSTILE)
 
 
 class ErrorCase(unittest.TestCase):
