@@ -128,3 +128,34 @@ def cut(bag, count):
         if taken < many:
             upper.append((number, many - taken))
     return tuple(lower), tuple(upper)
+
+
+def with_one(bag, number):
+    """The bag with one more of a number."""
+    # Joining slices keeps many single steps fast: nothing but the place of the number is searched for.
+    at = _place(bag, number)
+    if at < len(bag) and bag[at][0] == number:
+        return bag[:at] + ((number, bag[at][1] + 1),) + bag[at + 1:]
+    return bag[:at] + ((number, 1),) + bag[at:]
+
+
+def without_one(bag, number):
+    """The bag with one less of a number that it holds."""
+    at = _place(bag, number)
+    count = bag[at][1]
+    if count == 1:
+        return bag[:at] + bag[at + 1:]
+    return bag[:at] + ((number, count - 1),) + bag[at + 1:]
+
+
+def _place(bag, number):
+    """The index of the first entry whose number is not smaller than this one."""
+    low = 0
+    high = len(bag)
+    while low < high:
+        middle = (low + high) // 2
+        if bag[middle][0] < number:
+            low = middle + 1
+        else:
+            high = middle
+    return low

@@ -1,10 +1,9 @@
 """Heaps: contents that change, with a record or a capacity if wanted, and programs followed step by step."""
 
-from heapeffects.bags import bag_of, check_bag, cut, size_of, times, union
-from heapeffects.effects import Effect
-from heapeffects.errors import EmptyHeap, InvalidCount, NothingToUndo
-from heapeffects.failures import failing_index
-from heapeffects.integers import check_count, check_number, is_count
+from heapeffects.bags import bag_of, check_bag, cut, size_of, times, union, with_one, without_one
+from heapeffects.errors import EmptyHeap, NothingToUndo
+from heapeffects.failures import effect_on
+from heapeffects.integers import check_capacity, check_count, check_number
 from heapeffects.programs import expand
 
 LONGEST_BOUNDED_RUN = 10000
@@ -36,39 +35,10 @@ def removed_along(bag, program, *, limit=1000):
 def _after(bag, step, index):
     """What a heap holds after the elementary step that has this index."""
     if step[0] == "insert":
-        return _with_one(bag, step[1])
+        return with_one(bag, step[1])
     if not bag:
         raise EmptyHeap(index)
-    return _without_one(bag, 0)
-
-
-def _with_one(bag, number):
-    # Joining slices keeps a long walk fast: nothing but the place of the number is searched for.
-    at = _place(bag, number)
-    if at < len(bag) and bag[at][0] == number:
-        return bag[:at] + ((number, bag[at][1] + 1),) + bag[at + 1:]
-    return bag[:at] + ((number, 1),) + bag[at:]
-
-
-def _without_one(bag, at):
-    """The bag with one less of the number of its entry at this index."""
-    number, count = bag[at]
-    if count == 1:
-        return bag[:at] + bag[at + 1:]
-    return bag[:at] + ((number, count - 1),) + bag[at + 1:]
-
-
-def _place(bag, number):
-    """The index of the first entry whose number is not smaller than this one."""
-    low = 0
-    high = len(bag)
-    while low < high:
-        middle = (low + high) // 2
-        if bag[middle][0] < number:
-            low = middle + 1
-        else:
-            high = middle
-    return low
+    return without_one(bag, bag[0][0])
 
 
 class Heap:
@@ -117,9 +87,7 @@ class Heap:
 
     def run(self, program):
         """Run a program completely or not at all; the bag of what was removed."""
-        effect = Effect.of(program)
-        if self.size < effect.needed:
-            raise EmptyHeap(failing_index(self.size, program))
+        effect = effect_on(self.size, program)
         removed = effect.removed(self._bag)
         self._bag = effect.apply(self._bag)
         return removed
@@ -189,7 +157,7 @@ class BoundedHeap(Heap):
 
     def __init__(self, bag=(), *, capacity):
         Heap.__init__(self, bag)
-        _check_capacity(capacity, bag)
+        check_capacity(capacity, size_of(bag))
         self._capacity = capacity
 
     @property
@@ -199,7 +167,7 @@ class BoundedHeap(Heap):
 
     def resize(self, capacity):
         """Change the capacity."""
-        _check_capacity(capacity, self._bag)
+        check_capacity(capacity, self.size)
         self._capacity = capacity
 
     def push(self, number, *, count=1):
@@ -227,12 +195,6 @@ class BoundedHeap(Heap):
         return f"BoundedHeap({self._bag}, capacity={self._capacity})"
 
 
-def _check_capacity(capacity, bag):
-    """Raise InvalidCount unless this may be the capacity of a heap that holds the bag."""
-    if not is_count(capacity) or capacity < 1 or capacity < size_of(bag):
-        raise InvalidCount(capacity)
-
-
 def _run_bounded(bag, steps, capacity):
     """The bag that elementary steps remove from a heap with a capacity, and the bag that is left."""
     left = bag
@@ -246,6 +208,6 @@ def _run_bounded(bag, steps, capacity):
         elif size < capacity:
             size = size + 1
         else:
-            following = _without_one(following, len(following) - 1)
+            following = without_one(following, following[-1][0])
         left = following
     return bag_of(removed), left

@@ -20,3 +20,9 @@ def check_number(number):
 def check_count(count):
     if not is_count(count):
         raise InvalidCount(count)
+
+
+def check_capacity(capacity, size):
+    """Raise InvalidCount unless this may be the capacity of a heap that holds so many numbers."""
+    if not is_count(capacity) or capacity < 1 or capacity < size:
+        raise InvalidCount(capacity)

@@ -34,19 +34,27 @@ def _invalid_in(step, depth):
 
 
 def _is_insertion(step):
-    return _has_form(step, "insert", 3) and is_number(step[1]) and is_count(step[2])
+    return has_form(step, "insert", 3) and is_number(step[1]) and is_count(step[2])
 
 
 def _is_removal(step):
-    return _has_form(step, "remove", 2) and is_count(step[1])
+    return has_form(step, "remove", 2) and is_count(step[1])
+
+
+def is_elementary(step):
+    """Whether any value is an elementary step."""
+    if _is_insertion(step):
+        return step[2] == 1
+    return _is_removal(step) and step[1] == 1
 
 
 def _is_repeat(step):
     """Whether this is a repeat whose own items are right, whatever stands in its program."""
-    return _has_form(step, "repeat", 3) and is_count(step[1]) and isinstance(step[2], tuple)
+    return has_form(step, "repeat", 3) and is_count(step[1]) and isinstance(step[2], tuple)
 
 
-def _has_form(step, word, size):
+def has_form(step, word, size):
+    """Whether any value is a tuple of this size that begins with this word."""
     if not isinstance(step, tuple) or len(step) != size:
         return False
     # Any object may stand here; only a text is asked whether it is equal.
@@ -62,36 +70,37 @@ def step_count(program):
 def insertion_count(program):
     """How many of the elementary steps are insertions."""
     check_program(program)
-    return _totals(program)[0]
+    return totals(program)[0]
 
 
 def removal_count(program):
     """How many of the elementary steps are removals."""
     check_program(program)
-    return _totals(program)[1]
+    return totals(program)[1]
 
 
-def _totals(program):
+def totals(program):
     """How many insertions and how many removals a program stands for."""
-    parts = [_totals_of_step(step) for step in program]
+    parts = [totals_of_step(step) for step in program]
     return sum([part[0] for part in parts]), sum([part[1] for part in parts])
 
 
-def _totals_of_step(step):
+def totals_of_step(step):
+    """The same for a single step."""
     if step[0] == "insert":
         return step[2], 0
     if step[0] == "remove":
         return 0, step[1]
-    insertions, removals = _totals(step[2])
+    insertions, removals = totals(step[2])
     return step[1] * insertions, step[1] * removals
 
 
 def _length(program):
-    return sum(_totals(program))
+    return sum(totals(program))
 
 
 def _step_length(step):
-    return sum(_totals_of_step(step))
+    return sum(totals_of_step(step))
 
 
 def expand(program, *, limit=1000):

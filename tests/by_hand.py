@@ -148,3 +148,43 @@ def level(of_bag, number):
 def greater(some, others):
     """Whether survivors are greater than others, or equal to them."""
     return all(level(some, number) >= level(others, number) for number, _ in some + others)
+
+
+def moved(of_bag, by):
+    """The bag with all numbers moved by the same amount."""
+    return tuple((number + by, count) for number, count in of_bag)
+
+
+def moved_program(program, by):
+    steps = {"insert": lambda step: ("insert", step[1] + by, step[2]), "remove": lambda step: step,
+             "repeat": lambda step: ("repeat", step[1], moved_program(step[2], by))}
+    return tuple(steps[step[0]](step) for step in program)
+
+
+def moved_sequence(sequence, by):
+    return list(moved_program(sequence, by))
+
+
+def told(start, steps):
+    """What happens at each elementary step, up to the first that fails, one number at a time.
+
+    Returns the contents before each step and at the end, the removed numbers, for each insertion the index
+    of the step that removes its number, or None, and the index of the step that fails, or None.
+    """
+    # The numbers of the start came before all others.
+    heap = sorted((number, -1) for number in start)
+    contents, removed, fates = [], [], {}
+    for index, step in enumerate(steps):
+        contents.append(bag([number for number, _ in heap]))
+        if step[0] == "insert":
+            bisect.insort(heap, (step[1], index))
+            fates[index] = None
+        elif not heap:
+            return contents, removed, fates, index
+        else:
+            number, origin = heap.pop(0)
+            removed.append(number)
+            if origin >= 0:
+                fates[origin] = index
+    contents.append(bag([number for number, _ in heap]))
+    return contents, removed, fates, None

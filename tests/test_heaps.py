@@ -39,16 +39,6 @@ def state(heap):
     return seen
 
 
-def moved(bag, by):
-    return tuple((number + by, count) for number, count in bag)
-
-
-def moved_program(program, by):
-    steps = {"insert": lambda step: ("insert", step[1] + by, step[2]), "remove": lambda step: step,
-             "repeat": lambda step: ("repeat", step[1], moved_program(step[2], by))}
-    return tuple(steps[step[0]](step) for step in program)
-
-
 class Walks(ErrorCase):
     """heaps_along and removed_along."""
 
@@ -170,9 +160,9 @@ class Walks(ErrorCase):
     def test_results_move_along(self):
         program = (("insert", 3, 2), ("repeat", 2, (("remove", 2), ("insert", 4, 1))))
         bag = ((2, 1), (9, 3))
-        self.assertEqual(list(heaps_along(moved(bag, -5), moved_program(program, -5))),
-                         [moved(heap, -5) for heap in heaps_along(bag, program)])
-        self.assertEqual(list(removed_along(moved(bag, HUGE), moved_program(program, HUGE))),
+        self.assertEqual(list(heaps_along(by_hand.moved(bag, -5), by_hand.moved_program(program, -5))),
+                         [by_hand.moved(heap, -5) for heap in heaps_along(bag, program)])
+        self.assertEqual(list(removed_along(by_hand.moved(bag, HUGE), by_hand.moved_program(program, HUGE))),
                          [number + HUGE for number in removed_along(bag, program)])
 
 
@@ -293,10 +283,10 @@ class PlainHeaps(ErrorCase):
     def test_results_move_along(self):
         program = (("insert", 3, 2), ("repeat", HUGE, (("insert", 4, 2), ("remove", 1))))
         for by in (-7, HUGE):
-            heap, other = Heap(((2, 1), (9, 3))), Heap(moved(((2, 1), (9, 3)), by))
-            self.assertEqual(other.run(moved_program(program, by)), moved(heap.run(program), by))
-            self.assertEqual(other.contents, moved(heap.contents, by))
-            self.assertEqual(other.remove_smallest(count=5), moved(heap.remove_smallest(count=5), by))
+            heap, other = Heap(((2, 1), (9, 3))), Heap(by_hand.moved(((2, 1), (9, 3)), by))
+            self.assertEqual(other.run(by_hand.moved_program(program, by)), by_hand.moved(heap.run(program), by))
+            self.assertEqual(other.contents, by_hand.moved(heap.contents, by))
+            self.assertEqual(other.remove_smallest(count=5), by_hand.moved(heap.remove_smallest(count=5), by))
             self.assertEqual(other.smallest, heap.smallest + by)
 
 
@@ -622,9 +612,9 @@ class Capacities(ErrorCase):
     def test_results_move_along(self):
         program = (("insert", 3, 2), ("repeat", 5, (("insert", 4, 2), ("remove", 1))))
         heap = BoundedHeap(((2, 1), (9, 3)), capacity=5)
-        other = BoundedHeap(moved(((2, 1), (9, 3)), -7), capacity=5)
-        self.assertEqual(other.run(moved_program(program, -7)), moved(heap.run(program), -7))
-        self.assertEqual(other.contents, moved(heap.contents, -7))
+        other = BoundedHeap(by_hand.moved(((2, 1), (9, 3)), -7), capacity=5)
+        self.assertEqual(other.run(by_hand.moved_program(program, -7)), by_hand.moved(heap.run(program), -7))
+        self.assertEqual(other.contents, by_hand.moved(heap.contents, -7))
 
 
 class Copies(unittest.TestCase):

@@ -26,6 +26,22 @@ FUNCTIONS = {
         "separating_heap": "(first, second)", "identify": "(low, high, size, low_result, high_result)",
     },
     "division": {"right_quotient": "(whole, first)", "left_quotient": "(whole, last)"},
+    "sequences": {
+        "check_sequence": "(sequence)", "effect_of": "(sequence)", "count_sequences": "(effect)",
+        "sequence_at": "(effect, index)", "index_of": "(sequence)", "all_sequences": "(effect)",
+    },
+    "derivations": {
+        "allowed_exchanges": "(sequence)", "derivation": "(sequence, target)",
+        "check_derivation": "(sequence, target, value)",
+    },
+    "histories": {
+        "first_failure": "(bag, program)", "heap_after": "(bag, program, index)",
+        "removed_at": "(bag, program, ordinal)", "fate": "(bag, program, index)",
+        "removal_bound": "(program, ordinal)",
+    },
+    "plans": {
+        "distance": "(start, goal)", "plan": "(start, goal, *, stock=None)", "preimage": "(effect, result)",
+    },
 }
 
 # The methods of each class that stand in the class itself, by its file and name.
@@ -211,6 +227,70 @@ True
 >>> effect = Effect.of((("insert", 3, 1), ("insert", 7, 1), ("remove", 1)))
 >>> right_quotient(power(effect, 2), effect).survivors
 ((7, 1),)
+
+>>> from heapeffects.sequences import check_sequence
+>>> check_sequence([("remove", 1), ("insert", 5, 2)])
+raises InvalidSequence(index=1)
+
+>>> from heapeffects.effects import Effect
+>>> from heapeffects.sequences import count_sequences
+>>> count_sequences(Effect.of((("insert", 3, 1), ("insert", 7, 1), ("remove", 1))))
+3
+
+>>> from heapeffects.effects import Effect
+>>> from heapeffects.sequences import sequence_at
+>>> sequence_at(Effect.of((("insert", 3, 1), ("insert", 7, 1), ("remove", 1))), 1)
+[('insert', 3, 1), ('remove', 1), ('insert', 7, 1)]
+
+>>> from heapeffects.sequences import index_of
+>>> index_of([("insert", 7, 1), ("insert", 3, 1), ("remove", 1)])
+2
+
+>>> from heapeffects.derivations import allowed_exchanges
+>>> allowed_exchanges([("insert", 3, 1), ("insert", 7, 1), ("remove", 1)])
+[0, 1]
+
+>>> from heapeffects.derivations import check_derivation
+>>> check_derivation([("insert", 7, 1), ("insert", 3, 1), ("remove", 1)], [("insert", 3, 1), ("remove", 1), ("insert", 7, 1)], [0, 1])
+True
+
+>>> from heapeffects.histories import first_failure
+>>> first_failure(((1, 5),), (("repeat", 10 ** 30, (("remove", 2), ("insert", 9, 1))),))
+13
+
+>>> from heapeffects.histories import heap_after
+>>> heap_after((), (("repeat", 10 ** 30, (("insert", 3, 1), ("insert", 7, 1), ("remove", 1))),), 3 * 10 ** 30)
+((7, 1000000000000000000000000000000),)
+
+>>> from heapeffects.histories import removed_at
+>>> removed_at((), (("repeat", 10 ** 30, (("insert", 3, 1), ("insert", 7, 1), ("remove", 1))),), 10)
+3
+
+>>> from heapeffects.histories import fate
+>>> [fate((), (("repeat", 10 ** 30, (("insert", 3, 1), ("insert", 7, 1), ("remove", 1))),), index) for index in (0, 1)]
+[2, None]
+
+>>> from heapeffects.histories import removal_bound
+>>> removal_bound((("insert", 3, 1), ("insert", 7, 1), ("remove", 1)), 0)
+3
+
+>>> from heapeffects.plans import distance
+>>> distance(((1, 1), (5, 1)), ((5, 1), (6, 1)))
+2
+
+>>> from heapeffects.plans import plan
+>>> plan(((1, 1), (5, 1)), ((5, 1), (6, 1)))
+(('remove', 1), ('insert', 6, 1))
+
+>>> from heapeffects.plans import plan
+>>> plan(((1, 1), (5, 1)), ((5, 1), (6, 1)), stock=((7, 1),))
+None
+
+>>> from heapeffects.effects import Effect
+>>> from heapeffects.plans import preimage
+>>> effect = Effect.of((("insert", 5, 1), ("remove", 1)))
+>>> effect.apply(preimage(effect, ((5, 1),)))
+((5, 1),)
 """
 
 
@@ -229,7 +309,7 @@ def shown(example):
 class Examples(unittest.TestCase):
     def test_each_example(self):
         examples = EXAMPLES.strip().split("\n\n")
-        self.assertEqual(len(examples), 33)
+        self.assertEqual(len(examples), 48)
         for example in examples:
             with self.subTest(example):
                 self.assertEqual(shown(example), example.splitlines()[-1])

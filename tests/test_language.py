@@ -14,6 +14,9 @@ BUILTINS = set("""
     divmod super property staticmethod classmethod ValueError LookupError IndexError OverflowError RuntimeError
 """.split())
 
+# What L2 lets a file import from outside the package, and the package needs.
+LIBRARY = {"heapq": {"heappop", "heappush"}, "math": {"comb"}}
+
 BARRED = set("""
     register mro elements open input law version_info with_traceback add_note attrgetter breakpoint compile copyright
     credits delattr dir eval exec exit gc globals help id importlib license locals methodcaller os quit sys type vars
@@ -43,10 +46,34 @@ class Text(unittest.TestCase):
         for path in FILES:
             for node in ast.walk(ast.parse(path.read_text(encoding="utf-8"))):
                 self.assertNotIsInstance(node, ast.Import)
-                if isinstance(node, ast.ImportFrom):
+                if isinstance(node, ast.ImportFrom) and node.module in LIBRARY:
+                    self.assertLessEqual({alias.name for alias in node.names}, LIBRARY[node.module], path.name)
+                    self.assertEqual({alias.asname for alias in node.names}, {None}, path.name)
+                elif isinstance(node, ast.ImportFrom):
                     self.assertTrue(node.module.startswith("heapeffects."), path.name)
                     source = ast.parse((FOLDER / (node.module.split(".")[1] + ".py")).read_text(encoding="utf-8"))
                     self.assertLessEqual({alias.name for alias in node.names}, self.defined(source), path.name)
+
+    def test_no_two_files_import_from_each_other(self):
+        sources = {}
+        for path in FILES:
+            tree = ast.parse(path.read_text(encoding="utf-8"))
+            sources[path.stem] = {node.module.split(".")[1] for node in tree.body
+                                  if isinstance(node, ast.ImportFrom) and node.module not in LIBRARY}
+        while sources:
+            free = [stem for stem in sources if not sources[stem] & set(sources)]
+            self.assertNotEqual(free, [], sources)
+            for stem in free:
+                del sources[stem]
+
+    def test_names_of_the_library_are_only_called(self):
+        for path in FILES:
+            tree = ast.parse(path.read_text(encoding="utf-8"))
+            names = {name for names in LIBRARY.values() for name in names}
+            called = [node.func for node in ast.walk(tree) if isinstance(node, ast.Call)]
+            for node in ast.walk(tree):
+                if isinstance(node, ast.Name) and node.id in names:
+                    self.assertIn(node, called, path.name)
 
     def names(self, path):
         """All names that are bound or used in a file, those of attributes, parameters and keywords included."""

@@ -61,6 +61,14 @@ NOT_PROGRAMS = tuple((value, ()) for value in NOT_TUPLES) + (
 NOT_INDEXES = NOT_NUMBERS + (-1, -2, -10 ** 30)
 
 
+# Single values that are no elementary steps, also some that are steps.
+NOT_ELEMENTARY = NOT_STEPS + (
+    ("insert", 5, 0), ("insert", 5, 2), ("insert", 5, 10 ** 30), ("remove", 0), ("remove", 2), ("remove", 10 ** 30),
+    ("repeat", 1, ()), ("repeat", 1, INNER), ("repeat", 0, INNER), ("insert", 5), ("remove",), ("remove_greatest",),
+)
+
+NOT_LISTS = (None, True, False, 0, 1, "", "[]", b"", (), (GOOD,), {}, {GOOD: 1}, set(), 1.5, list, object(), HOSTILE)
+
 # An effect's parts, texts and programs are no effects.
 NOT_EFFECTS = (None, True, False, 0, 5, "", "effect", "Effect((), 0, ())", b"", (), ((), 0, ()), [], [()], {}, set(), 1.5,
                (GOOD,), Effect, Effect.identity, object(), HOSTILE)
