@@ -47,9 +47,13 @@ def sequence_at(effect, index):
     sequence = []
     left = index
     for _ in range(length):
-        step, state, skipped = _choice_at(state, left, known)
-        left = left - skipped
-        sequence.append(step)
+        for step, following in _choices(state):
+            ways = _ways(following, known)
+            if left < ways:
+                sequence.append(step)
+                state = following
+                break
+            left = left - ways
     return sequence
 
 
@@ -119,21 +123,6 @@ def _choices(state):
         following = (left, without_one(heap, number), without_one(consumed, number), removals - 1)
         choices.append((("remove", 1), following))
     return choices
-
-
-def _choice_at(state, index, known):
-    """The next step of the sequence at an index, the state after it, and how many sequences come before it.
-
-    The index is among the sequences that lead from the state to the end; those that begin with a smaller
-    step come before.
-    """
-    skipped = 0
-    for step, following in _choices(state):
-        ways = _ways(following, known)
-        if index < skipped + ways:
-            return step, following, skipped
-        skipped = skipped + ways
-    return None
 
 
 def _ways(state, known):

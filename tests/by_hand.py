@@ -188,3 +188,18 @@ def told(start, steps):
                 fates[origin] = index
     contents.append(bag([number for number, _ in heap]))
     return contents, removed, fates, None
+
+
+def run_sized(start, steps, capacity):
+    """What sized steps leave of a heap, as a sorted tuple, or the index of the step that finds it empty."""
+    heap = sorted(start)
+    for index, step in enumerate(steps):
+        if step[0] == "insert":
+            bisect.insort(heap, step[1])
+            if capacity is not None:
+                del heap[capacity:]
+        elif not heap:
+            return index
+        else:
+            heap.pop(0 if step[0] == "remove" else -1)
+    return tuple(heap)

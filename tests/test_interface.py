@@ -42,6 +42,14 @@ FUNCTIONS = {
     "plans": {
         "distance": "(start, goal)", "plan": "(start, goal, *, stock=None)", "preimage": "(effect, result)",
     },
+    "observations": {
+        "agrees": "(effect, observations)", "possible_survivors": "(inserted, removals, observations)",
+        "question_size": "(inserted, removals, observations)",
+    },
+    "formats": {
+        "format_bag": "(bag)", "format_program": "(program)", "format_effect": "(effect)",
+        "parse_bag": "(text)", "parse_program": "(text)", "parse_effect": "(text)",
+    },
 }
 
 # The methods of each class that stand in the class itself, by its file and name.
@@ -60,6 +68,14 @@ METHODS = {
     ("heaps", "BoundedHeap"): {
         "__init__": "(self, bag=(), *, capacity)", "resize": "(self, capacity)", "run": "(self, program)",
     },
+    ("sized", "SizedEffect"): {
+        "__init__": "(self, steps, *, size, capacity=None)", "apply": "(self, bag)", "level": "(self, number)",
+        "then": "(self, other)", "__eq__": "(self, other)",
+    },
+    ("sessions", "Session"): {
+        "__init__": "(self, bag=())", "run": "(self, user, program)", "undo": "(self, user)", "effect": "(self, user)",
+        "copy": "(self)", "__eq__": "(self, other)",
+    },
 }
 
 # Those of them that are static methods, class methods and properties.
@@ -70,6 +86,8 @@ PROPERTIES = {
     ("heaps", "Heap"): ("contents", "size", "smallest"),
     ("heaps", "RecordedHeap"): ("record",),
     ("heaps", "BoundedHeap"): ("capacity",),
+    ("sized", "SizedEffect"): ("size", "capacity", "size_after"),
+    ("sessions", "Session"): ("contents", "entries"),
 }
 
 # The examples of the interface, as they stand there.
@@ -291,6 +309,47 @@ None
 >>> effect = Effect.of((("insert", 5, 1), ("remove", 1)))
 >>> effect.apply(preimage(effect, ((5, 1),)))
 ((5, 1),)
+
+>>> from heapeffects.sized import SizedEffect
+>>> SizedEffect([("insert", 2), ("remove_greatest",)], size=2).apply(((1, 1), (5, 1)))
+((1, 1), (2, 1))
+
+>>> from heapeffects.sized import SizedEffect
+>>> SizedEffect([("insert", 2), ("remove_greatest",)], size=2).level(2)
+(1, 1, 2)
+
+>>> from heapeffects.observations import possible_survivors
+>>> possible_survivors(((3, 1), (7, 1)), 1, [])
+(3, ((7, 1),), ((3, 1), (7, 1)))
+
+>>> from heapeffects.observations import question_size
+>>> question_size(((3, 1), (7, 1)), 1, [])
+0
+
+>>> from heapeffects.sessions import Session
+>>> session = Session()
+>>> session.run("ann", (("insert", 3, 1),))
+>>> removed = session.run("bo", (("insert", 2, 1), ("remove", 1)))
+>>> program = session.undo("ann")
+>>> (removed, program, session.contents)
+(((2, 1),), (('insert', 3, 1),), ())
+
+>>> from heapeffects.formats import format_bag
+>>> format_bag(((-2, 1), (5, 3)))
+'-2 5x3'
+
+>>> from heapeffects.formats import format_program
+>>> format_program((("insert", 5, 2), ("repeat", 3, (("remove", 1),))))
+'+5x2 [ ! ]3'
+
+>>> from heapeffects.effects import Effect
+>>> from heapeffects.formats import format_effect
+>>> format_effect(Effect.of((("insert", 3, 1), ("insert", 7, 1), ("remove", 1))))
+'3 7 | 1 | 7'
+
+>>> from heapeffects.formats import parse_bag
+>>> parse_bag('5 3')
+raises ParseError(position=1)
 """
 
 
@@ -309,7 +368,7 @@ def shown(example):
 class Examples(unittest.TestCase):
     def test_each_example(self):
         examples = EXAMPLES.strip().split("\n\n")
-        self.assertEqual(len(examples), 48)
+        self.assertEqual(len(examples), 57)
         for example in examples:
             with self.subTest(example):
                 self.assertEqual(shown(example), example.splitlines()[-1])
@@ -352,6 +411,8 @@ class Signatures(unittest.TestCase):
         self.assertEqual(heap.__bases__, (object,))
         self.assertEqual(self.found("heaps", "RecordedHeap").__bases__, (heap,))
         self.assertEqual(self.found("heaps", "BoundedHeap").__bases__, (heap,))
+        for place in (("effects", "Effect"), ("sized", "SizedEffect"), ("sessions", "Session")):
+            self.assertEqual(self.found(*place).__bases__, (object,))
 
     def test_methods_that_are_inherited_take_the_same_arguments(self):
         for name in ("RecordedHeap", "BoundedHeap"):
